@@ -1,0 +1,129 @@
+"""Rules for the files of the package that can be read off their text and syntax."""
+
+import ast
+import builtins
+import pathlib
+import re
+import unittest
+
+FOLDER = pathlib.Path(__file__).parent.parent / "webnumbers"
+FILES = sorted(path for path in FOLDER.iterdir() if path.name != "__pycache__")
+BUILTINS = """len range enumerate zip min max sum abs sorted reversed int str bool list tuple dict set frozenset
+isinstance ord repr any all divmod Exception ValueError TypeError KeyError IndexError LookupError super""".split()
+METHODS = """append clear copy count endswith extend find get index insert isalnum isalpha isdigit islower isspace
+isupper items join keys ljust lower lstrip partition pop remove replace reverse rfind rjust rpartition rsplit rstrip
+setdefault split splitlines startswith strip update upper values zfill bit_length isascii isdecimal add discard
+__init__""".split()
+BARRED_WORDS = """type typing enum Enum Generic Protocol ABC namedtuple NamedTuple TypedDict dataclass
+overload""".split()
+BARRED_NAMES = "register mro elements law".split()
+
+
+def nodes_of(tree, *kinds):
+    return [node for node in ast.walk(tree) if isinstance(node, kinds)]
+
+
+def bound_names(tree):
+    """Return the names that functions, classes, imports, parameters and assignments bind."""
+    names = [node.name for node in nodes_of(tree, ast.FunctionDef, ast.ClassDef)]
+    names += [node.arg for node in nodes_of(tree, ast.arg)]
+    names += [node.id for node in nodes_of(tree, ast.Name) if isinstance(node.ctx, ast.Store)]
+    return names
+
+
+class LanguageTest(unittest.TestCase):
+    def each_file(self):
+        for path in FILES:
+            text = path.read_text(encoding="utf-8")
+            yield path, text, ast.parse(text)
+
+    def test_the_folder(self):
+        for path in FILES:
+            self.assertRegex(path.name, r"\A[a-z_]+\.py\Z")
+        self.assertIn("__init__.py", [path.name for path in FILES])
+
+    def test_sizes_and_characters(self):
+        for path, text, tree in self.each_file():
+            lines = text.split("\n")
+            self.assertLess(len(lines), 400)
+            self.assertLessEqual(max(map(len, lines)), 120)
+            self.assertRegex(text, r"\A[ -~\n]*\Z")
+            for function in nodes_of(tree, ast.FunctionDef):
+                self.assertLessEqual(function.end_lineno - function.lineno + 1, 40, function.name)
+
+    def test_imports(self):
+        imported = {}
+        for path, _, tree in self.each_file():
+            imported[path.stem] = []
+            self.assertEqual([], nodes_of(tree, ast.Import))
+            for node in nodes_of(tree, ast.ImportFrom):
+                names = [alias.name for alias in node.names]
+                self.assertIn(node, tree.body)
+                if node.module == "math":
+                    self.assertEqual(["comb"], names)
+                    continue
+                module = re.fullmatch(r"webnumbers\.([a-z]+)", node.module).group(1)
+                imported[path.stem].append(module)
+                source = ast.parse((FOLDER / f"{module}.py").read_text(encoding="utf-8"))
+                defined = [bound for part in source.body for bound in bound_names(part)]
+                self.assertLessEqual(set(names), set(defined))
+        while imported:
+            free = [name for name, modules in imported.items() if not set(modules) & set(imported)]
+            self.assertNotEqual([], free, "files import from each other")
+            for name in free:
+                del imported[name]
+
+    def test_names(self):
+        for _, text, tree in self.each_file():
+            imports = [alias.name for node in nodes_of(tree, ast.ImportFrom) for alias in node.names]
+            for name in bound_names(tree):
+                self.assertNotIn(name, dir(builtins))
+                self.assertNotIn(name, imports)
+                self.assertNotIn(name, BARRED_NAMES)
+                self.assertRegex(name, r"\A(_|__init__|_?[A-Za-z][A-Za-z0-9_]*)\Z")
+            for word in re.findall(r"\w+", text):
+                self.assertNotIn(word, BARRED_WORDS)
+
+    def test_only_known_builtins_and_methods(self):
+        for _, _, tree in self.each_file():
+            for node in nodes_of(tree, ast.Name):
+                if hasattr(builtins, node.id):
+                    self.assertIn(node.id, BUILTINS)
+            for node in nodes_of(tree, ast.Call):
+                if isinstance(node.func, ast.Attribute):
+                    self.assertIn(node.func.attr, METHODS)
+
+    def test_statements_and_values(self):
+        barred = (ast.Global, ast.AsyncFunctionDef, ast.Await, ast.Div, ast.Pow, ast.Try, ast.AnnAssign, ast.MatMult)
+        for _, text, tree in self.each_file():
+            self.assertEqual([], nodes_of(tree, *barred))
+            self.assertEqual([], [node for node in nodes_of(tree, ast.FunctionDef) if node.decorator_list])
+            for node in nodes_of(tree, ast.Constant):
+                self.assertNotIsInstance(node.value, (float, complex, bytes))
+                self.assertNotIn("%", str(node.value))
+            for node in tree.body:
+                self.assertIsInstance(node, (ast.Expr, ast.ImportFrom, ast.FunctionDef, ast.ClassDef, ast.Assign))
+            for node in nodes_of(tree, ast.SetComp, ast.Set):
+                self.assertNotIn(node, [loop.iter for loop in nodes_of(tree, ast.For, ast.comprehension)])
+
+    def test_each_name_of_a_module_is_bound_once(self):
+        generators = []
+        others = []
+        for _, _, tree in self.each_file():
+            names = [name for part in tree.body if not isinstance(part, ast.Expr) for name in self.top_names(part)]
+            self.assertEqual(sorted(set(names)), sorted(names))
+            for function in nodes_of(tree, ast.FunctionDef):
+                yields = nodes_of(function, ast.Yield, ast.YieldFrom)
+                (generators if yields else others).append(function.name)
+        self.assertEqual(set(), set(generators) & set(others))
+
+    def top_names(self, part):
+        if isinstance(part, (ast.FunctionDef, ast.ClassDef)):
+            return [part.name]
+        if isinstance(part, ast.ImportFrom):
+            return [alias.name for alias in part.names]
+        return [target.id for target in part.targets]
+
+
+if __name__ == "__main__":
+    unittest.main()

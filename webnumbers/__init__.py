@@ -1,0 +1,1 @@
+"""Webs added, multiplied, divided and raised like numbers."""
