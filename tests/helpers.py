@@ -132,8 +132,7 @@ def plain_components(web):
 def plain_homs(x, a):
     """Return all homs from x to a in lexicographic order."""
     pairs = ties(a)
-    rows = itertools.product(range(a[0]), repeat=x[0])
-    return [row for row in rows if all((row[u], row[v]) in pairs for u, v in x[1])]
+    return [row for row in every_map(x, a) if all((row[u], row[v]) in pairs for u, v in x[1])]
 
 
 def plain_code(web):
@@ -148,6 +147,21 @@ def least_code_rows(web):
     return [row for row in rows if plain_code(moved(web, row)) == least]
 
 
+def plain_sort(web):
+    """Return the sort of the web."""
+    return moved(web, least_code_rows(web)[0])
+
+
+def plain_sorts(webs):
+    """Return the sorts of the webs with equally many nodes, each once, with ascending codes."""
+    return sorted({plain_sort(web) for web in webs}, key=plain_code)
+
+
+def every_map(x, a):
+    """Return all maps from x to a in lexicographic order."""
+    return list(itertools.product(range(a[0]), repeat=x[0]))
+
+
 def closed_walks(web, length):
     """Return the number of closed walks of the length, by the powers of the matrix of the web."""
     pairs = ties(web)
@@ -157,3 +171,26 @@ def closed_walks(web, length):
     for _ in range(length):
         power = [[sum(row[k] * matrix[k][v] for k in nodes) for v in nodes] for row in power]
     return sum(power[u][u] for u in nodes)
+
+
+def joined(web):
+    """Tell whether the web has exactly one component."""
+    return len(plain_components(web)) == 1
+
+
+def joined_webs(limit):
+    """Return all simple connected webs with at most `limit` nodes."""
+    return [web for web in small_webs(limit, loops=False) if joined(web)]
+
+
+def random_joined_web(seed, size, share=0.3):
+    """Return a simple connected web that the seed determines."""
+    chooser = random.Random(seed)
+    tree = [(chooser.randrange(node), node) for node in range(1, size)]
+    others = [(u, v) for u in range(size) for v in range(u + 1, size) if chooser.random() < share]
+    return moved(web_of_ties(size, tree + others), random_row(seed, size))
+
+
+def same_sort(a, b):
+    """Tell whether some row renames a into b."""
+    return a[0] == b[0] and len(a[1]) == len(b[1]) and bool(renaming_rows(a, b))

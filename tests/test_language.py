@@ -14,6 +14,7 @@ METHODS = """append clear copy count endswith extend find get index insert isaln
 isupper items join keys ljust lower lstrip partition pop remove replace reverse rfind rjust rpartition rsplit rstrip
 setdefault split splitlines startswith strip update upper values zfill bit_length isascii isdecimal add discard
 __init__""".split()
+ITERATING = "list tuple dict sorted sum min max any all enumerate zip".split()
 BARRED_WORDS = """type typing enum Enum Generic Protocol ABC namedtuple NamedTuple TypedDict dataclass
 overload""".split()
 BARRED_NAMES = "register mro elements law".split()
@@ -116,6 +117,62 @@ class LanguageTest(unittest.TestCase):
                 yields = nodes_of(function, ast.Yield, ast.YieldFrom)
                 (generators if yields else others).append(function.name)
         self.assertEqual(set(), set(generators) & set(others))
+
+    def test_generators_are_iterated_at_once(self):
+        generators = []
+        for _, _, tree in self.each_file():
+            for function in nodes_of(tree, ast.FunctionDef):
+                if nodes_of(function, ast.Yield, ast.YieldFrom):
+                    generators.append(function.name)
+        for path, _, tree in self.each_file():
+            at_once = [loop.iter for loop in nodes_of(tree, ast.For, ast.comprehension)]
+            at_once += [node.value for node in nodes_of(tree, ast.YieldFrom)]
+            for call in nodes_of(tree, ast.Call):
+                if isinstance(call.func, ast.Name) and call.func.id in ITERATING:
+                    at_once += call.args[:1]
+            calls = [call for call in nodes_of(tree, ast.Call)
+                     if isinstance(call.func, ast.Name) and call.func.id in generators]
+            for call in calls:
+                self.assertIn(call, at_once, path.name)
+                for value in call.args + [word.value for word in call.keywords]:
+                    self.assertIsInstance(value, (ast.Name, ast.Attribute, ast.Constant), path.name)
+            uses = [node for node in nodes_of(tree, ast.Name) if node.id in generators]
+            self.assertEqual([call.func for call in calls], uses, path.name)
+
+    def test_sets_are_used_on_the_spot_or_kept_in_a_variable(self):
+        for path, _, tree in self.each_file():
+            allowed = [node.value for node in nodes_of(tree, ast.Assign)]
+            for node in nodes_of(tree, ast.Compare):
+                allowed += [node.left, *node.comparators]
+            for call in nodes_of(tree, ast.Call):
+                if isinstance(call.func, ast.Name) and call.func.id in ("sorted", "len"):
+                    allowed += call.args if not call.keywords else []
+            for node in nodes_of(tree, ast.Set, ast.SetComp):
+                self.assertIn(node, allowed, path.name)
+            for call in nodes_of(tree, ast.Call):
+                if isinstance(call.func, ast.Name) and call.func.id == "set":
+                    self.assertIn(call, allowed, path.name)
+
+    def test_operators(self):
+        for path, _, tree in self.each_file():
+            for node in nodes_of(tree, ast.BinOp):
+                if isinstance(node.op, ast.Pow):
+                    self.assertIsInstance(node.right, ast.Constant, path.name)
+            for node in nodes_of(tree, ast.Compare):
+                for sign, value in zip(node.ops, node.comparators):
+                    if isinstance(sign, (ast.Is, ast.IsNot)):
+                        self.assertIsInstance(value, ast.Constant, path.name)
+
+    def test_generator_expressions_stand_alone(self):
+        for path, _, tree in self.each_file():
+            alone = []
+            for call in nodes_of(tree, ast.Call):
+                if isinstance(call.func, ast.Name) and call.func.id in ITERATING:
+                    alone += call.args[:1]
+                if isinstance(call.func, ast.Attribute) and call.func.attr == "join":
+                    alone += call.args[:1]
+            for node in nodes_of(tree, ast.GeneratorExp):
+                self.assertIn(node, alone, path.name)
 
     def top_names(self, part):
         if isinstance(part, (ast.FunctionDef, ast.ClassDef)):

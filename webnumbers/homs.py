@@ -6,12 +6,17 @@ from webnumbers.webs import neighbour_masks, neighbour_rows
 MAX_MAPS = 4096
 
 
+def count_rows(size, length):
+    """Return the number of rows with the length whose entries are less than the size."""
+    many = 1
+    for _ in range(length):
+        many = many * size
+    return many
+
+
 def count_maps(x, a):
     """Return the number of maps from x to a."""
-    many = 1
-    for _ in range(x[0]):
-        many = many * a[0]
-    return many
+    return count_rows(a[0], x[0])
 
 
 def check_maps(x, a):

@@ -52,6 +52,11 @@ def neighbour_masks(web):
     return [sum(1 << other for other in row) for row in neighbour_rows(web)]
 
 
+def ordered_pairs(web):
+    """Return the ascending list of the ordered pairs of adjacent nodes; a loop gives one pair."""
+    return [(node, other) for node, row in enumerate(neighbour_rows(web)) for other in row]
+
+
 def first_loop(web):
     """Return the least node with a loop, or None."""
     for first, second in web[1]:
@@ -92,10 +97,15 @@ def check_different_nodes(web, row):
         seen.add(node)
 
 
-def renamed(web, row):
-    """Return the web in which each node v has received the number row[v]."""
+def check_renaming(web, row):
+    """Raise InvalidRow if the row does not contain each node exactly once and nothing else."""
     check_length(web, row)
     check_different_nodes(web, row)
+
+
+def renamed(web, row):
+    """Return the web in which each node v has received the number row[v]."""
+    check_renaming(web, row)
     return image(web, row, web[0])
 
 
