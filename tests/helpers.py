@@ -5,6 +5,8 @@ import random
 import time
 import unittest
 
+from webnumbers.renamings import find_renaming
+
 
 class WebCase(unittest.TestCase):
     """A test case that also checks the attributes of errors."""
@@ -194,3 +196,14 @@ def random_joined_web(seed, size, share=0.3):
 def same_sort(a, b):
     """Tell whether some row renames a into b."""
     return a[0] == b[0] and len(a[1]) == len(b[1]) and bool(renaming_rows(a, b))
+
+
+def are_same(first, second):
+    """Tell whether the two lists contain webs of the same sorts, each sort as often."""
+    rest = list(second)
+    for web in first:
+        match = [other for other in rest if other[0] == web[0] and find_renaming(web, other) is not None]
+        if not match:
+            return False
+        rest.remove(match[0])
+    return not rest

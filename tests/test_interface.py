@@ -36,8 +36,25 @@ FUNCTIONS = {
     "twins": "twin_classes thin blown_up",
     "skeletons": "dispenser skeleton",
     "groups": "good_sets direct_groups",
+    "directs": "full_part direct_factors direct_coordinates is_direct_prime",
+    "strongs": "with_loops without_loops strong_factors strong_coordinates is_strong_prime",
+    "lots": "greatest_lots lots_with joined_lots lot_size untied_size",
+    "levels": "levels_splits",
+    "monomials": "is_monomial join_monomials part_monomials root_monomial common_monomial monomial_key",
+    "terms": "add_terms multiply_terms divide_terms subtract_terms",
+    "dividing": "root scaled_split",
 }
-GENERATORS = "all_renamings all_webs homs partings twists good_sets".split()
+# The class values, attributes of objects, properties, static methods and methods of each class, and its arguments.
+CLASSES = {
+    "polys": ("Poly", "(terms)", {
+        "value": {"MAX_POWER": 16},
+        "property": "total height lead",
+        "staticmethod": {"of_number": "(number)", "of_prime": "(number)"},
+        "method": {"power": "(self, exponent)"},
+        "sign": "__add__ __radd__ __mul__ __rmul__ __pow__ __floordiv__ __call__ __str__",
+    }),
+}
+GENERATORS = "all_renamings all_webs homs partings twists good_sets lots_with".split()
 ARGUMENTS = {
     "one_to_one_by_homs": "(x, a)",
     "homs_by_one_to_one": "(x, a)",
@@ -83,11 +100,39 @@ ARGUMENTS = {
     "skeleton": "(web)",
     "good_sets": "(web)",
     "direct_groups": "(web)",
+    "full_part": "(web)",
+    "direct_factors": "(web)",
+    "direct_coordinates": "(web)",
+    "is_direct_prime": "(web)",
+    "with_loops": "(web)",
+    "without_loops": "(web)",
+    "strong_factors": "(web)",
+    "strong_coordinates": "(web)",
+    "is_strong_prime": "(web)",
+    "greatest_lots": "(web)",
+    "lots_with": "(web, *nodes, least=0)",
+    "joined_lots": "(second_size, first, second)",
+    "lot_size": "(web)",
+    "untied_size": "(web)",
+    "levels_splits": "(web)",
+    "is_monomial": "(value)",
+    "join_monomials": "(first, second)",
+    "common_monomial": "(first, second)",
+    "part_monomials": "(first, second)",
+    "root_monomial": "(monomial, degree)",
+    "monomial_key": "(monomial)",
+    "add_terms": "(first, second)",
+    "multiply_terms": "(first, second)",
+    "divide_terms": "(first, second)",
+    "subtract_terms": "(first, second)",
+    "root": "(poly, degree)",
+    "scaled_split": "(poly)",
 }
 VALUES = [
     ("webs", "MAX_NODES", 64), ("renamings", "MAX_RENAMED", 9), ("sorts", "MAX_SORTED", 5), ("walks", "MAX_WALK", 12),
     ("homs", "MAX_MAPS", 4096), ("partings", "MAX_PARTED", 6), ("twists", "MAX_TWISTED", 6),
-    ("products", "KINDS", ("box", "strong", "direct", "levels")),
+    ("products", "KINDS", ("box", "strong", "direct", "levels")), ("lots", "MAX_LOTS", 16), ("terms", "MAX_TERMS", 64),
+    ("terms", "MAX_DIGITS", 120), ("terms", "MAX_EXPONENT", 64),
 ]
 
 
@@ -113,6 +158,25 @@ class InterfaceTest(unittest.TestCase):
     def test_values(self):
         for module, name, value in VALUES:
             self.assertEqual(value, getattr(importlib.import_module(f"webnumbers.{module}"), name))
+
+    def test_classes(self):
+        for module, (name, arguments, parts) in CLASSES.items():
+            kind = getattr(importlib.import_module(f"webnumbers.{module}"), name)
+            self.assertEqual((f"webnumbers.{module}", name), (kind.__module__, kind.__qualname__))
+            self.assertEqual(arguments, str(inspect.signature(kind)))
+            # Each part is defined in the class itself.
+            own = vars(kind)
+            for word, value in parts.get("value", {}).items():
+                self.assertEqual(value, own[word])
+            for word in parts.get("property", "").split():
+                self.assertIsInstance(own[word], property)
+            for word, told in parts.get("staticmethod", {}).items():
+                self.assertIsInstance(own[word], staticmethod)
+                self.assertEqual(told, str(inspect.signature(own[word].__func__)))
+            for word, told in parts.get("method", {}).items():
+                self.assertEqual(told, str(inspect.signature(own[word])))
+            for word in parts.get("sign", "").split():
+                self.assertTrue(inspect.isfunction(own[word]))
 
 
 if __name__ == "__main__":

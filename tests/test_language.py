@@ -9,11 +9,13 @@ import unittest
 FOLDER = pathlib.Path(__file__).parent.parent / "webnumbers"
 FILES = sorted(path for path in FOLDER.iterdir() if path.name != "__pycache__")
 BUILTINS = """len range enumerate zip min max sum abs sorted reversed int str bool list tuple dict set frozenset
-isinstance ord repr any all divmod Exception ValueError TypeError KeyError IndexError LookupError super""".split()
+isinstance ord repr any all divmod Exception ValueError TypeError KeyError IndexError LookupError super
+property staticmethod iter""".split()
 METHODS = """append clear copy count endswith extend find get index insert isalnum isalpha isdigit islower isspace
 isupper items join keys ljust lower lstrip partition pop remove replace reverse rfind rjust rpartition rsplit rstrip
 setdefault split splitlines startswith strip update upper values zfill bit_length isascii isdecimal add discard
 __init__""".split()
+DOUBLE = "__init__ __add__ __radd__ __mul__ __rmul__ __floordiv__ __pow__ __call__ __str__".split()
 ITERATING = "list tuple dict sorted sum min max any all enumerate zip".split()
 BARRED_WORDS = """type typing enum Enum Generic Protocol ABC namedtuple NamedTuple TypedDict dataclass
 overload""".split()
@@ -81,7 +83,8 @@ class LanguageTest(unittest.TestCase):
                 self.assertNotIn(name, dir(builtins))
                 self.assertNotIn(name, imports)
                 self.assertNotIn(name, BARRED_NAMES)
-                self.assertRegex(name, r"\A(_|__init__|_?[A-Za-z][A-Za-z0-9_]*)\Z")
+                if name not in DOUBLE:
+                    self.assertRegex(name, r"\A(_|_?[A-Za-z][A-Za-z0-9_]*)\Z")
             for word in re.findall(r"\w+", text):
                 self.assertNotIn(word, BARRED_WORDS)
 
@@ -162,6 +165,23 @@ class LanguageTest(unittest.TestCase):
                 for sign, value in zip(node.ops, node.comparators):
                     if isinstance(sign, (ast.Is, ast.IsNot)):
                         self.assertIsInstance(value, ast.Constant, path.name)
+
+    def test_sorted_takes_no_generator(self):
+        # The package has operators, which bar it.
+        for path, _, tree in self.each_file():
+            for call in nodes_of(tree, ast.Call):
+                if isinstance(call.func, ast.Name) and call.func.id == "sorted":
+                    self.assertNotIsInstance(call.args[0], ast.GeneratorExp, path.name)
+
+    def test_what_operators_run_changes_nothing(self):
+        # Operators call functions of these files. Beside a reflected addition, += takes literal integers only.
+        for path, _, tree in self.each_file():
+            if path.stem in ("monomials", "terms", "polys"):
+                for node in nodes_of(tree, ast.AugAssign):
+                    self.assertIsInstance(node.value, ast.Constant, path.name)
+                for node in nodes_of(tree, ast.Attribute):
+                    if isinstance(node.ctx, ast.Store):
+                        self.assertEqual(("self", "terms"), (node.value.id, node.attr))
 
     def test_generator_expressions_stand_alone(self):
         for path, _, tree in self.each_file():
