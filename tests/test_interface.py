@@ -4,6 +4,8 @@ import importlib
 import inspect
 import unittest
 
+from webnumbers.desk import Desk
+
 FUNCTIONS = {
     "webs": "make_web adjacent neighbour_rows first_loop check_simple image renamed induced",
     "pieces": "components pieces is_connected check_connected distances sides",
@@ -43,6 +45,13 @@ FUNCTIONS = {
     "monomials": "is_monomial join_monomials part_monomials root_monomial common_monomial monomial_key",
     "terms": "add_terms multiply_terms divide_terms subtract_terms",
     "dividing": "root scaled_split",
+    "measuring": "measure_poly web_quotient web_root common_factor",
+    "expressions": "parse write_tree names_in",
+    "identities": "expand identity_holds counterexample",
+    "equations": "solve",
+    "splits": "splits full_splits web_splits",
+    "desk": "replay",
+    "reports": "report",
 }
 # The class values, attributes of objects, properties, static methods and methods of each class, and its arguments.
 CLASSES = {
@@ -52,6 +61,29 @@ CLASSES = {
         "staticmethod": {"of_number": "(number)", "of_prime": "(number)"},
         "method": {"power": "(self, exponent)"},
         "sign": "__add__ __radd__ __mul__ __rmul__ __pow__ __floordiv__ __call__ __str__",
+    }),
+    "books": ("PrimeBook", "(kind)", {
+        "property": "primes",
+        "method": {"place_of": "(self, web)", "read": "(self, web)", "build": "(self, poly)"},
+        "sign": "__iter__",
+    }),
+    "desk": ("Desk", "(kind)", {
+        "value": {"MAX_ENTRIES": 20},
+        "property": "journal",
+        "method": {
+            "set_web": "(self, name, web)",
+            "set_formula": "(self, name, text)",
+            "set_equation": "(self, name, left, right)",
+            "drop": "(self, name)",
+            "built": "(self, name)",
+            "form_of": "(self, name)",
+            "used_by": "(self, name)",
+            "steps": "(self)",
+            "undo": "(self)",
+            "redo": "(self)",
+            "run_lines": "(self, lines)",
+        },
+        "sign": "__getitem__ __setitem__ __contains__ __iter__",
     }),
 }
 GENERATORS = "all_renamings all_webs homs partings twists good_sets lots_with".split()
@@ -127,6 +159,22 @@ ARGUMENTS = {
     "subtract_terms": "(first, second)",
     "root": "(poly, degree)",
     "scaled_split": "(poly)",
+    "measure_poly": "(book, poly, modulus)",
+    "web_quotient": "(book, a, b)",
+    "web_root": "(book, web, degree)",
+    "common_factor": "(book, a, b)",
+    "parse": "(text)",
+    "write_tree": "(tree)",
+    "names_in": "(tree)",
+    "expand": "(tree, values)",
+    "identity_holds": "(left, right)",
+    "counterexample": "(left, right)",
+    "solve": "(coefficients, target)",
+    "splits": "(p)",
+    "full_splits": "(p)",
+    "web_splits": "(book, web)",
+    "replay": "(kind, lines)",
+    "report": "(desk)",
 }
 VALUES = [
     ("webs", "MAX_NODES", 64), ("renamings", "MAX_RENAMED", 9), ("sorts", "MAX_SORTED", 5), ("walks", "MAX_WALK", 12),
@@ -149,6 +197,7 @@ class InterfaceTest(unittest.TestCase):
     def test_what_yields_values(self):
         found = [name for _, name, function in self.each_function() if inspect.isgeneratorfunction(function)]
         self.assertEqual(sorted(GENERATORS), sorted(found))
+        self.assertTrue(inspect.isgeneratorfunction(Desk.steps))
 
     def test_arguments(self):
         for _, name, function in self.each_function():

@@ -15,7 +15,8 @@ METHODS = """append clear copy count endswith extend find get index insert isaln
 isupper items join keys ljust lower lstrip partition pop remove replace reverse rfind rjust rpartition rsplit rstrip
 setdefault split splitlines startswith strip update upper values zfill bit_length isascii isdecimal add discard
 __init__""".split()
-DOUBLE = "__init__ __add__ __radd__ __mul__ __rmul__ __floordiv__ __pow__ __call__ __str__".split()
+DOUBLE = """__init__ __add__ __radd__ __mul__ __rmul__ __floordiv__ __pow__ __call__ __str__ __iter__ __contains__
+__getitem__ __setitem__""".split()
 ITERATING = "list tuple dict sorted sum min max any all enumerate zip".split()
 BARRED_WORDS = """type typing enum Enum Generic Protocol ABC namedtuple NamedTuple TypedDict dataclass
 overload""".split()

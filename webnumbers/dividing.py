@@ -36,25 +36,33 @@ def next_root_term(found, lead, degree):
 
 def root_term(term, degree):
     """Return the term whose power with the degree is the given one, or None."""
-    count = root_number(term[0], degree)
+    count = number_root([(degree, 1)], term[0])
     monomial = root_monomial(term[1], degree)
     if count is None or monomial is None:
         return None
     return (count, monomial)
 
 
-def root_number(number, degree):
-    """Return the integer whose power with the degree is the given one, which is at least 1, or None."""
+def number_root(parts, goal):
+    """Return the integer n from 1 on for which the sum of count * n ** exponent is the goal, or None.
+
+    The parts are pairs of an exponent and a count, both from 1 on; so the sum grows with n.
+    """
     low = 1
-    high = 1 << (number.bit_length() // degree + 1)
-    # The root is at least low and less than high.
+    high = 1 << (goal.bit_length() // min([exponent for exponent, _ in parts]) + 1)
+    # The integer is at least low and less than high.
     while high - low > 1:
         middle = (low + high) // 2
-        if power_number(middle, degree) > number:
+        if sum_of_powers(parts, middle) > goal:
             high = middle
         else:
             low = middle
-    return low if power_number(low, degree) == number else None
+    return low if sum_of_powers(parts, low) == goal else None
+
+
+def sum_of_powers(parts, number):
+    """Return the sum of the counts times the powers of the number."""
+    return sum([count * power_number(number, exponent) for exponent, count in parts])
 
 
 def left_by_power(terms, found, degree):

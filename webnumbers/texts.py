@@ -41,11 +41,11 @@ def size_in(line):
     return size
 
 
-def number_in(word):
-    """Return the number with at most two digits that the word is, or None."""
-    if not (word.isascii() and word.isdigit()) or len(word) > 2:
+def number_in(word, most=2):
+    """Return the number with at most so many digits that the word is, or None."""
+    if not (word.isascii() and word.isdigit()) or len(word) > most:
         return None
-    if len(word) == 2 and word[0] == "0":
+    if len(word) > 1 and word[0] == "0":
         return None
     return int(word)
 
