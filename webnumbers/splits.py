@@ -60,7 +60,6 @@ def quotient_terms(first, second):
 
 def full_splits(p):
     """Return the list of all lists of polynomials without splits whose product is the given one."""
-    check_split(p)
     return [[Poly(terms) for terms in row] for row in full_rows(p, {})]
 
 
