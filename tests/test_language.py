@@ -6,6 +6,8 @@ import pathlib
 import re
 import unittest
 
+from webnumbers import errors
+
 FOLDER = pathlib.Path(__file__).parent.parent / "webnumbers"
 FILES = sorted(path for path in FOLDER.iterdir() if path.name != "__pycache__")
 BUILTINS = """len range enumerate zip min max sum abs sorted reversed int str bool list tuple dict set frozenset
@@ -194,6 +196,27 @@ class LanguageTest(unittest.TestCase):
                     alone += call.args[:1]
             for node in nodes_of(tree, ast.GeneratorExp):
                 self.assertIn(node, alone, path.name)
+
+    def test_handlers_name_own_errors(self):
+        for path, _, tree in self.each_file():
+            for handler in nodes_of(tree, ast.ExceptHandler):
+                self.assertTrue(hasattr(errors, handler.type.id), path.name)
+
+    def test_decorators(self):
+        for path, _, tree in self.each_file():
+            methods = [node for kind in nodes_of(tree, ast.ClassDef) for node in kind.body]
+            for node in nodes_of(tree, ast.FunctionDef, ast.ClassDef):
+                names = [word.id for word in node.decorator_list]
+                self.assertIn(names, ([], ["property"], ["staticmethod"]), path.name)
+                self.assertTrue(node in methods or not names, path.name)
+
+    def test_no_name_is_a_method_and_an_attribute(self):
+        methods, attributes = set(), set()
+        for _, _, tree in self.each_file():
+            for kind in nodes_of(tree, ast.ClassDef):
+                methods |= {node.name for node in kind.body if isinstance(node, ast.FunctionDef)}
+            attributes |= {node.attr for node in nodes_of(tree, ast.Attribute) if isinstance(node.ctx, ast.Store)}
+        self.assertEqual(set(), methods & attributes)
 
     def top_names(self, part):
         if isinstance(part, (ast.FunctionDef, ast.ClassDef)):
